@@ -169,6 +169,15 @@ class Programs(unittest.TestCase):
         tree = program(("min", A, B))
         self.assertEqual(read_expr(write_expr(brackets)), brackets)
         self.assertEqual(read_program(write_program(tree)), tree)
+        sums = A
+        for _ in range(93):
+            sums = ("add", sums, B)
+        self.assertEqual(read_program(write_program(program(sums))), program(sums))
+        rows = ("bool",)
+        for at in range(90):
+            rows = ("row", rows, at)
+        deep = ("program", (("k", rows),), program(A)[2])
+        self.assertEqual(read_program(write_program(deep)), deep)
         many = (("set", "x", ("add", A, B)),) * 3300
         tree = ("program", (), (("unit", "u", (("a", ("bool",), 0),), (("b", ("bool",)),), many),))
         self.assertEqual(read_program(write_program(tree)), tree)
