@@ -1,6 +1,6 @@
 """Kinds of which not all is known, as terms that are made equal."""
 
-from keepsgoing.kinds import BOOL, is_row
+from keepsgoing.kinds import is_row
 
 ANY = ("any",)
 PLAIN = ("plain",)
@@ -94,6 +94,6 @@ def _joined(known, more):
 
 def _number_told(number, told):
     kind = told[1]
-    if kind == BOOL or kind[0] != "num":
+    if kind[0] != "num":
         return None
     return told if kind[1] <= number[1] and number[2] <= kind[2] else None

@@ -1,6 +1,6 @@
 """Places: what the names of a scope become in a flat program."""
 
-from keepsgoing.items import declared_in, defined_in
+from keepsgoing.items import defined_in
 from keepsgoing.meanings import meaning_of
 
 
@@ -80,7 +80,7 @@ def state_place(above, state, prefix, layer):
     place = Place(prefix + ".", prefix + "@here", resets, above.meanings)
     place.above = above
     place.layer = layer
-    for name in declared_in(state[2]) + defined_in(state[2]):
+    for name in defined_in(state[2]):
         place.own[name] = True
     place.declare_items(state[2])
     return place

@@ -7,8 +7,8 @@ FRONT = 8
 BOTTOM = 9
 
 LEVELS = {
-    "then": THEN, "or": 2, "xor": 3, "and": 4, "==": COMPARING, "!=": COMPARING,
-    "<": COMPARING, "<=": COMPARING, "+": 6, "-": 6, "*": 7, "/": 7,
+    "then": 1, "or": 2, "xor": 3, "and": 4, "==": 5, "!=": 5, "<": 5, "<=": 5,
+    "+": 6, "-": 6, "*": 7, "/": 7,
 }
 
 # What an operator is called in a tree, and the other way round.

@@ -97,6 +97,9 @@ class Clocks(unittest.TestCase):
         self.clash(1, E, (None, 1, X))
         self.clash(1, E, (None, 2, A))
         self.clash(0, ("a", 1, E))
+        self.clash(0, (None, 1, ("when", YES, ("every", 2, 0, None))))
+        self.clash(1, ("when", Y, ("every", 2, 0, None)), ("and", X, A))
+        self.clash(0, ("a", 1, ("held", ("when", YES, ON), ("when", YES, OFF), OFF, ())))
         self.assertEqual(self.clocks(Z, ("x", 1, YES), E), ((COMES,),) * 3)
         self.clash(2, Z, ("a", 2, Y), ("and", E, A))
 

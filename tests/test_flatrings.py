@@ -73,6 +73,8 @@ class Knots(Checks):
         self.ring("x", ("held", X, ("when", A, two), two, ()))
         self.ring("xz", (LV, ("pick", A, Z, Z)), A, (LV, ("mid", X, ("name", "n"), ("name", "n"))))
         self.ring("x", ("fresh", "e", 2, X))
+        self.ring("xy", ("merge", "y", ((NO, NO), (YES, YES))), X)
+        self.ring("xy", ("held", A, YES, ("is", "y", YES), ()), X)
         self.ring("x", ("eq", ("pick", A, X, NO), B))
 
     def test_equations_of_other_kinds(self):
@@ -108,11 +110,12 @@ class Knots(Checks):
         merged = ("merge", "y", ((NO, ("when", A, ("is", "y", NO))), (YES, Z)))
         self.ring("yz", merged, ("not", ("held", A, Z, on, ())), ("when", A, on))
         self.right(merged, ("last", ("held", A, Z, on, ()), ()), ("when", A, on))
+        self.ring("yz", A, ("not", ("held", A, Z, on, ())), YES)
 
     def test_loose_inputs(self):
         # The loose input l has the clock of y, so it hangs on z.
         on = ("is", "z", YES)
-        inputs = INPUTS + (("l", BOOL, "y"),)
+        inputs = INPUTS + (("l", BOOL, "y"), ("k", BOOL, "i0"), ("j", BOOL, "l"))
         exprs = (("held", A, ("name", "l"), on, ()), ("when", B, on), X)
         with self.assertRaises(Ring) as caught:
             check_rings(flat(*exprs, inputs=inputs))

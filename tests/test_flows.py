@@ -149,6 +149,15 @@ class IsFlow(unittest.TestCase):
         # Another here of the same input does, too.
         self.yes(FLOW[:2] + (nodes + (("input", NUM, ((23, 1),), 4),),) + FLOW[3:])
 
+    def test_nodes_that_nothing_looks_at(self):
+        for node in (("beat", NUM, (), 3, 1), ("beat", MODE, (), 3, 1), ("here", NUM, (), 1),
+                     ("here", BOOL, ON, 1), ("const", ("bol",), (), 0), ("not", NUM, (), 0),
+                     ("eq", NUM, (), 6, 6), ("as", BOOL, (), 9), ("row", NUM, (), 6, 9)):
+            self.no(FLOW[:2] + (NODES + (node,),) + FLOW[3:])
+        for node in (("beat", BOOL, (), 3, 1), ("here", BOOL, (), 1), ("not", BOOL, (), 0),
+                     ("eq", BOOL, (), 6, 6)):
+            self.yes(FLOW[:2] + (NODES + (node,),) + FLOW[3:])
+
     def test_consts(self):
         self.no_parts(5, 3, -1, 6, None, (), (4,))
         self.no_parts(18, 3, 3, -1)

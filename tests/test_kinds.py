@@ -71,7 +71,8 @@ class IsKind(unittest.TestCase):
         self.no(("row", BOOL, 3, 3))
 
     def test_other_things(self):
-        for thing in ((), None, 0, "bool", ("bool", 1), (("bool",),), ((),)):
+        for thing in ((), None, 0, "bool", ("bool", 1), (("bool",),), ((),),
+                      ("num", False, True, 1, "hold"), ("row", BOOL, True)):
             self.no(thing)
 
 

@@ -78,6 +78,8 @@ class Told(unittest.TestCase):
         self.clash(0, ("at", B, B))
         self.clash(0, ("at", ("name", "r"), A))
         self.clash(0, ("put", ("name", "r"), B, A))
+        self.clash(0, ("put", ("name", "r"), A, B))
+        self.assertEqual(self.kinds(("put", ("row", A, A), B, A)), (("row", BOOL, 2),))
         self.clash(0, ("sum", ("row", A)))
         self.clash(0, ("any", ("name", "r")))
         self.clash(0, ("as", C, LV))
@@ -97,6 +99,10 @@ class Told(unittest.TestCase):
 
     def test_rows(self):
         self.clash(0, ("eq", ("row", B), ("row", B, B)))
+        self.assertEqual(self.kinds(("at", Y, B), ("last", Y, ()), ("eq", ("name", "r"), Y)),
+                         (LV, ("row", LV, 3), BOOL))
+        self.assertEqual(self.kinds(("at", Y, B), ("last", Y, ()), ("eq", Y, ("name", "r"))),
+                         (LV, ("row", LV, 3), BOOL))
         self.clash(1, ("eq", Y, ("row", B)), ("row", B, B))
         self.clash(0, ("eq", ("row", B), ("row", A)))
         self.clash(0, ("at", ("at", ("name", "r"), B), B))

@@ -66,6 +66,12 @@ class Exprs(Runs):
         self.shows("unit t(m: md) gives (x: lv) { x = merge(m, md.q: 2, md.r: 3, md.p: 1); }",
                    [0, 1, 2, 1], [1, 2, 3, 2])
 
+    def test_names_that_are_looked_at_come_first(self):
+        self.one("merge(y, true: 1, false: 2)", self.ROWS, [2, 1, 1, 2, 1, 2],
+                 "local y; y = z; local z; z = b;")
+        self.one("held(0, 1 then last s + 1, y is true)", self.ROWS, [0, 1, 2, 2, 3, 3],
+                 "local y; y = b; local s: lv; s = 1 then last s + 1;")
+
     def test_held(self):
         self.one("held(50, when(a, b is true), b is true)", self.ROWS, [50, 2, 3, 3, 5, 5])
         self.one("held(c, when(a, every 3 from 1), every 3 from 1)", self.ROWS, [5, 2, 2, 2, 5, 5])
