@@ -93,6 +93,18 @@ class Words(unittest.TestCase):
                          [(0, 1, 1), (1, None, 1), (0, 0, 1), (0, 1, 1), (1, None, 1)])
         self.assertEqual(run.state, (2, 1, 0))
 
+    def test_operations(self):
+        other = ("num", -9, 9, 2, "hold")
+        row = ("row", NUM, 2)
+        made = flow((("x", NUM, 0), ("y", NUM, 0)), (
+            ("input", NUM, (), 0), ("input", NUM, (), 1), ("as", other, (), 0), ("neg", other, (), 2),
+            ("row", row, (), 0, 1), ("sum", NUM, (), 4), ("put", row, (), 4, 0, 1),
+            ("at", NUM, (), 6, 1), ("div", NUM, (), 1, 0), ("le", BOOL, (), 0, 1)),
+            2, 3, 4, 5, 6, 7, 8, 9)
+        self.shows(made, [(3, 4), (0, 5), (1, 0)], [
+            (6, -6, (3, 4), 1, (3, 4), 4, 1, 1), (0, 0, (0, 5), 5, (5, 5), 5, 5, 1),
+            (2, -2, (1, 0), 1, (1, 0), 1, 0, 0)])
+
     def test_order_of_what_is_shown(self):
         made = ("flow", TOTAL[1] + (("b", BOOL, 0),), TOTAL[2] + (("input", BOOL, (), 1),),
                 (("z", 2), ("a", 0)), (("y", 3),), (("b", 3),))

@@ -126,6 +126,7 @@ class IsFlow(unittest.TestCase):
     def test_clocks(self):
         for at in range(len(NODES)):
             self.no_parts(at, 2, ((0, 2),), ((0, -1),), ((20, 1),), ((-1, 1),), ((6, 1),),
+                          None, 5, ((0,),), ((0, 1, 1),), (0,), ((None, 1),),
                           ((9, 1),), ((11, 0),), ((4, 3),), ((0, 1), (0, 1)), ((17, 1),),
                           ((17, 1), (0, 1)), ((8, 1), (17, 1)), ((0, 0), (17, 1)), ((0, None),))
         self.no_parts(8, 2, ((8, 1),))
@@ -146,6 +147,10 @@ class IsFlow(unittest.TestCase):
         nodes = NODES + (("input", NUM, (), 2), ("input", NUM, ON + ((17, 1),), 2),
                          ("input", NUM, ((19, 1),), 4), ("here", BOOL, (), 4))
         self.yes(FLOW[:2] + (nodes,) + FLOW[3:])
+        # A const of 1 is no here of the input number 1.
+        nodes = nodes + (("const", BOOL, (), 1), ("input", NUM, ((24, 1),), 1))
+        self.no(FLOW[:2] + (nodes,) + FLOW[3:])
+        nodes = nodes[:-2]
         # Another here of the same input does, too.
         self.yes(FLOW[:2] + (nodes + (("input", NUM, ((23, 1),), 4),),) + FLOW[3:])
 

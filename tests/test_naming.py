@@ -379,6 +379,8 @@ class Exprs(Faults):
                  "not {} * (- {})", "row({}, {})", "merge(y, true: {}, false: {})",
                  "else(e, {} < {})", "as({} / {}, bool)", "last {} == last {}"]
         for head in heads:
+            for fault_alone in faults:
+                self.expr(head.format("a", fault_alone[0]), *fault_alone[1:])
             for one, two in itertools.permutations(faults, 2):
                 self.expr(head.format(one[0], two[0]), *one[1:])
 

@@ -114,6 +114,25 @@ class Trees(unittest.TestCase):
                 self.assertEqual(expr(f"a {tight} b {loose} c"), (one, (two, A, B), C))
                 self.assertEqual(expr(f"(a {loose} b) {tight} c"), (two, (one, A, B), C))
 
+    def test_comparisons(self):
+        names = {"==": "eq", "!=": "ne", "<": "lt", "<=": "le"}
+        for sign, name in names.items():
+            self.assertEqual(expr(f"a {sign} b + c"), (name, A, ("add", B, C)))
+            self.assertEqual(expr(f"a + b {sign} c"), (name, ("add", A, B), C))
+            self.assertEqual(expr(f"a {sign} b * c"), (name, A, ("mul", B, C)))
+            self.assertEqual(expr(f"a and b {sign} c"), ("and", A, (name, B, C)))
+            self.assertEqual(expr(f"a {sign} b and c"), ("and", (name, A, B), C))
+            for other in names:
+                self.assertEqual(bad(f"{HEAD} x = a {sign} b {other} c; }}"), 19)
+                self.assertEqual(bad(f"{HEAD} x = a {sign} b + c {other} a; }}"), 21)
+                self.assertIsNone(bad(f"{HEAD} x = a {sign} b or c {other} a; }}"))
+
+    def test_levels_of_all_signs(self):
+        for one in ("+", "-"):
+            for two in ("*", "/"):
+                self.assertEqual(expr(f"a {one} b {two} c")[0], {"+": "add", "-": "sub"}[one])
+                self.assertEqual(expr(f"a {two} b {one} c")[0], {"+": "add", "-": "sub"}[one])
+
     def test_signs(self):
         signs = {"==": "eq", "!=": "ne", "<": "lt", "<=": "le", "+": "add", "-": "sub", "*": "mul",
                  "/": "div"}

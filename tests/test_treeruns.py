@@ -94,6 +94,15 @@ class Exprs(Runs):
                    [(None, None, 1, 0), (2, None, 0, 1), (3, 3, 0, 1), (None, None, 1, 0),
                     (5, None, 0, 1), (6, 6, 0, 1)])
 
+    def test_rates_of_what_is_not_there(self):
+        # The clock of x begins with that of s, though x is made of a number alone.
+        self.shows("unit t(a: lv, b: bool) gives (x: lv, y: lv) { local s; s = when(a, b is true); "
+                   "x = when(7, every 2 from 0); local z; z = held(s, x, every 2 from 0); "
+                   "y = when(z, every 2 from 1); }",
+                   [(1, 0), (1, 1), (1, 0), (1, 1), (1, 0), (1, 1), (1, 1)],
+                   [(None, None), (7, None), (None, None), (None, 7), (None, None), (7, None),
+                    (None, 7)])
+
     def test_kinds_fit(self):
         self.shows("unit t(a: num -3..4 wrap) gives (x: num -3..4 wrap, y: bool) { x = a + 3 * a; "
                    "y = a < 0 - a; }", [0, 1, 2, -3], [(0, 0), (4, 0), (0, 0), (4, 1)])
