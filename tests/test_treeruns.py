@@ -97,7 +97,7 @@ class Exprs(Runs):
     def test_rates_of_what_is_not_there(self):
         # The clock of x begins with that of s, though x is made of a number alone.
         self.shows("unit t(a: lv, b: bool) gives (x: lv, y: lv) { local s; s = when(a, b is true); "
-                   "x = when(7, every 2 from 0); local z; z = held(s, x, every 2 from 0); "
+                   "x = 7; local z; z = held(s, x, every 2 from 0); "
                    "y = when(z, every 2 from 1); }",
                    [(1, 0), (1, 1), (1, 0), (1, 1), (1, 0), (1, 1), (1, 1)],
                    [(None, None), (7, None), (None, None), (None, 7), (None, None), (7, None),
