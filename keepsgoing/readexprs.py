@@ -87,11 +87,9 @@ def _read_call(stream):
 
 
 def _read_parts(stream, many):
-    parts = [read_expr(stream)]
     if many is None:
-        while stream.takes(","):
-            parts.append(read_expr(stream))
-        return tuple(parts)
+        return stream.want_some(read_expr)
+    parts = [read_expr(stream)]
     while len(parts) < many:
         stream.want(",")
         parts.append(read_expr(stream))
@@ -137,10 +135,7 @@ def _read_value(stream):
 def _read_merge(stream):
     name = stream.want_name()
     stream.want(",")
-    arms = [_read_arm(stream)]
-    while stream.takes(","):
-        arms.append(_read_arm(stream))
-    return ("merge", name, tuple(arms))
+    return ("merge", name, stream.want_some(_read_arm))
 
 
 def _read_arm(stream):

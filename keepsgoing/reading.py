@@ -2,7 +2,7 @@
 
 from keepsgoing.readexprs import read_expr
 from keepsgoing.readkinds import read_kind
-from keepsgoing.streams import TokenStream
+from keepsgoing.streams import TokenStream, read_name
 from keepsgoing.words import is_base_name
 
 
@@ -31,21 +31,17 @@ def _read_unit(stream):
     stream.want("unit")
     name = stream.want_name()
     stream.want("(")
-    ins = [_read_in(stream)]
-    while stream.takes(","):
-        ins.append(_read_in(stream))
+    ins = stream.want_some(_read_in)
     stream.want(")")
     stream.want("gives")
     stream.want("(")
-    outs = [_read_declared(stream)]
-    while stream.takes(","):
-        outs.append(_read_declared(stream))
+    outs = stream.want_some(_read_declared)
     stream.want(")")
     stream.want("{")
     items = []
     while not stream.takes("}"):
         items.append(_read_item(stream))
-    return ("unit", name, tuple(ins), tuple(outs), tuple(items))
+    return ("unit", name, ins, outs, tuple(items))
 
 
 def _read_in(stream):
@@ -92,19 +88,15 @@ def _read_local(stream):
 
 
 def _read_use(stream):
-    names = [stream.want_name()]
-    while stream.takes(","):
-        names.append(stream.want_name())
+    names = stream.want_some(read_name)
     stream.want("=")
     unit = stream.want_name()
     stream.want("(")
-    args = [read_expr(stream)]
-    while stream.takes(","):
-        args.append(read_expr(stream))
+    args = stream.want_some(read_expr)
     stream.want(")")
     every = read_expr(stream) if stream.takes("every") else None
     stream.want(";")
-    return ("use", tuple(names), unit, tuple(args), every)
+    return ("use", names, unit, args, every)
 
 
 def _read_machine(stream):

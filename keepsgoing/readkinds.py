@@ -1,6 +1,7 @@
 """Reading KINDs."""
 
 from keepsgoing.errors import BadText
+from keepsgoing.streams import read_name
 from keepsgoing.words import is_base_name
 
 
@@ -44,8 +45,6 @@ def _read_int(stream):
 
 def _read_mode(stream):
     stream.want("(")
-    names = [stream.want_name()]
-    while stream.takes(","):
-        names.append(stream.want_name())
+    names = stream.want_some(read_name)
     stream.want(")")
-    return ("mode", tuple(names))
+    return ("mode", names)

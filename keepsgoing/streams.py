@@ -5,6 +5,11 @@ from keepsgoing.tokens import tokens_of
 from keepsgoing.words import is_base_name, is_number
 
 
+def read_name(stream):
+    """Take a NAME and return it."""
+    return stream.want_name()
+
+
 class TokenStream:
     """The tokens of a text, and how many of them have been taken."""
 
@@ -52,6 +57,13 @@ class TokenStream:
         if not is_number(self.ahead()):
             raise BadText(self.at)
         return int(self.take())
+
+    def want_some(self, read):
+        """Take one or more things, separated by commas, with a function that takes one."""
+        found = [read(self)]
+        while self.takes(","):
+            found.append(read(self))
+        return tuple(found)
 
     def want_end(self):
         """All tokens must have been taken."""
