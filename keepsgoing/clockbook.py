@@ -17,13 +17,15 @@ class ClockBook:
 
     def number(self, clock):
         """Return the number of a clock, which it is given when it is new."""
-        for size in range(1, len(clock) + 1):
-            if clock[:size] not in self.numbers:
-                self.above.append(self.numbers[clock[:size - 1]])
-                self.tests.append(self._test(clock[size - 1]))
-                self.numbers[clock[:size]] = len(self.counts)
-                self.counts.append(0)
-                self.there.append(None)
+        known = len(clock)
+        while clock[:known] not in self.numbers:
+            known -= 1
+        for size in range(known + 1, len(clock) + 1):
+            self.above.append(self.numbers[clock[:size - 1]])
+            self.tests.append(self._test(clock[size - 1]))
+            self.numbers[clock[:size]] = len(self.counts)
+            self.counts.append(0)
+            self.there.append(None)
         return self.numbers[clock]
 
     def _test(self, layer):

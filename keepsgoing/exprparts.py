@@ -49,6 +49,22 @@ def listed(expr):
     return list(zip(parts, turned))
 
 
+def places_from_left(parts):
+    """Return the places of the listed parts, each ahead of those in it, from left to right."""
+    found = []
+    waiting = [len(parts) - 1]
+    while waiting:
+        at = waiting.pop()
+        found.append(at)
+        waiting.extend(list(reversed(parts[at][1])))
+    return found
+
+
+def lasts_from_left(parts):
+    """Return the places of the lasts among the listed parts, in the order of places_from_left."""
+    return [at for at in places_from_left(parts) if parts[at][0][0] == "last"]
+
+
 def own_names(part):
     """Return the names of streams that a part itself looks at, but for its resets."""
     word = part[0]

@@ -9,16 +9,15 @@ class Hanging:
 
     def __init__(self, flat, clocks):
         self.names = [equation[0] for equation in flat[2]]
-        told = {equation[0]: clock for equation, clock in zip(flat[2], clocks)}
-        loose = [(name, home) for name, _, home in flat[1] if home not in (0, 1)]
-        self.names.extend([name for name, _ in loose])
+        loose = loose_inputs(flat)
+        self.names.extend(loose)
         self.places = {name: place for place, name in enumerate(self.names)}
-        homes = {name: home for name, home in loose}
         self.on = []
         for equation, clock in zip(flat[2], clocks):
             self.on.append(self._among(_clock_names(clock) + expr_hangs(equation[4])))
-        for name, _ in loose:
-            self.on.append(self._among(_clock_names(_loose_clock(name, homes, told))))
+        told = input_clocks(flat, clocks)
+        for name in loose:
+            self.on.append(self._among(_clock_names(told[name])))
 
     def _among(self, names):
         return sorted(set([self.places[name] for name in names if name in self.places]))
@@ -39,9 +38,26 @@ def _clock_names(clock):
     return found
 
 
-def _loose_clock(name, homes, told):
-    """Return the clock of a loose input: that of its home, which can be a loose one, too."""
-    home = name
-    while home in homes:
-        home = homes[home]
-    return told[home] if home in told else ()
+def loose_inputs(flat):
+    """Return the names of the loose inputs of a flat program, in order."""
+    return [name for name, _, event in flat[1] if event not in (0, 1)]
+
+
+def input_clocks(flat, clocks):
+    """Return a dict with the clock of each input, by the clocks of the equations."""
+    told = {equation[0]: clock for equation, clock in zip(flat[2], clocks)}
+    homes = {}
+    for name, _, event in flat[1]:
+        if event == 0:
+            told[name] = ()
+        elif event == 1:
+            told[name] = (("is", name + "@here", ("truth", 1)),)
+        else:
+            homes[name] = event
+    for name in homes:
+        # The home of a loose input can be a loose one, too.
+        home = homes[name]
+        while home in homes:
+            home = homes[home]
+        told[name] = told[home]
+    return {name: told[name] for name, _, _ in flat[1]}

@@ -1,8 +1,9 @@
 """The plain run of a straight flow."""
 
+from keepsgoing.flowwork import FlowWork
 from keepsgoing.flows import all_hangs
-from keepsgoing.graphs import order_among
-from keepsgoing.nodework import beginning_of, cells_of, is_there, worker_of
+from keepsgoing.graphs import groups_among
+from keepsgoing.nodework import beginning_of
 from keepsgoing.trials import Trial
 
 
@@ -10,12 +11,7 @@ class FlowRun:
     """A run of a straight flow; its state is the tuple of its contents."""
 
     def __init__(self, flow):
-        self.flow = flow
-        self.places = cells_of(flow)
-        self.works = [
-            (number, flow[2][number], worker_of(flow, number, self.places))
-            for number in order_among(all_hangs(flow))
-        ]
+        self.work = FlowWork(flow, groups_among(all_hangs(flow)))
         self.contents = beginning_of(flow)
         self.seen = ()
 
@@ -36,31 +32,8 @@ class FlowRun:
 
     def tick(self, row):
         """Do one tick with a row, and return what is shown."""
-        contents = list(self.contents)
-        entries = [None] * len(self.flow[2])
-        for number, node, work in self.works:
-            if node[0] == "delay" and any(entries[reset] == 1 for reset in node[5]):
-                contents[self.places[number]] = node[3]
-            if is_there(node, entries):
-                entries[number] = work(entries, row, contents)
-        self._keep(entries, contents)
-        self.contents = tuple(contents)
-        self.seen = tuple(entries)
-        return self._shown()
-
-    def _keep(self, entries, contents):
-        for number in self.places:
-            if entries[number] is not None:
-                node = self.flow[2][number]
-                cell = self.places[number]
-                if node[0] == "delay":
-                    contents[cell] = entries[node[4]]
-                else:
-                    contents[cell] = (contents[cell] + 1) % node[3]
-
-    def _shown(self):
-        _, _, _, outputs, assumes, keeps = self.flow
-        return tuple([self.seen[node] for _, node in outputs + assumes + keeps])
+        self.seen, self.contents = self.work.tick(row, self.contents)
+        return self.work.shown(self.seen)
 
     def ticks(self, rows):
         """Do a tick with each row when it is asked for, and yield what is shown."""

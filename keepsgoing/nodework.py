@@ -76,10 +76,3 @@ def _merge(node):
 MAKERS = {"input": _input, "here": _here, "const": _const, "when": _when, "merge": _merge}
 
 
-def is_there(node, entries):
-    """Tell whether a node is there, by the value of the last node in its clock.
-
-    That node has a value only if the pairs ahead of it hold.
-    """
-    clock = node[2]
-    return clock == () or entries[clock[-1][0]] == clock[-1][1]
