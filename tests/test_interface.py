@@ -19,12 +19,31 @@ FUNCTIONS = {
     "rates": "rate_of(clock) one_beat(clock,other)",
     "flatrings": "check_rings(flat) settle(names,exprs,parts,truths)",
     "starts": "grades_of(flat) check_starts(flat) is_started(flat)",
+    "checking": "checked(flat)",
+    "flatruns": "lasts_of(flat)",
+    "flowof": "flow_of(flat)",
+    "knots": "settles(flow,knot) entering(flow,knot) judge_knots(flow)",
+    "opening": "opened(flow)",
+    "orders": "judge_order(flow,order) order_of(flow)",
+    "traces": "trace_of(flow,rows) blame(flow,rows,trace)",
+    "classes": "judge_classes(flow,paper) merged(flow,paper)",
+    "alike": "alike(flow)",
+    "steady": "judge_steady(flow,paper) settled(flow,paper) steady(flow)",
+    "improving": "needed(flow) swept(flow) improved(flow)",
+    "seats": "lives(flow,order) judge_seats(flow,order,seating) seats_of(flow,order)",
+    "images": "is_image(image)",
+    "imageof": "image_of(flow,order,seating)",
 }
 TICKING = {"tick": ["self", "row"], "ticks": ["self", "rows"]}
 STATED = {"resume": ["self", "state"], "trial": ["self"], "tried": ["self", "rows"]}
 CLASSES = {
-    "flowruns": ("FlowRun", ["flow"], {**TICKING, **STATED}, ["state", "entries"]),
-    "treeruns": ("ProgramRun", ["program"], TICKING, []),
+    "flowruns": ("FlowRun", "(flow)", {**TICKING, **STATED}, ["state", "entries"]),
+    "treeruns": ("ProgramRun", "(program)", TICKING, []),
+    "flatruns": ("FlatRun", "(flat,fillings=())", TICKING, []),
+    "knotruns": ("KnotRun", "(flow)", {**TICKING, **STATED}, ["state"]),
+    "orderruns": ("OrderRun", "(flow,order)", {**TICKING, **STATED}, ["state"]),
+    "machine": ("Machine", "(image)", {**TICKING, **STATED, "spoil": ["self", "cells"]},
+                ["state", "steps", "total", "cells"]),
 }
 
 
@@ -48,7 +67,7 @@ class Interface(unittest.TestCase):
         for module, (name, arguments, methods, properties) in CLASSES.items():
             made = getattr(importlib.import_module("keepsgoing." + module), name)
             self.assertEqual(made.__module__, "keepsgoing." + module)
-            self.assertEqual(list(inspect.signature(made).parameters), arguments)
+            self.assertEqual(str(inspect.signature(made)).replace(" ", ""), arguments)
             for method, told in methods.items():
                 got = inspect.signature(vars(made)[method])
                 self.assertEqual(list(got.parameters), told)
@@ -56,10 +75,16 @@ class Interface(unittest.TestCase):
             for each in properties:
                 self.assertIsInstance(vars(made)[each], property)
 
+    def test_class_method(self):
+        made = importlib.import_module("keepsgoing.machine").Machine
+        self.assertIsInstance(vars(made)["of"], classmethod)
+        self.assertEqual(list(inspect.signature(made.of).parameters), ["made"])
+
     def test_runs_without_a_state(self):
-        run = importlib.import_module("keepsgoing.treeruns").ProgramRun
-        for name in ("state", "resume", "trial", "tried"):
-            self.assertFalse(hasattr(run, name))
+        for module, (name, _, methods, _) in CLASSES.items():
+            run = getattr(importlib.import_module("keepsgoing." + module), name)
+            for each in ("state", "resume", "trial", "tried"):
+                self.assertIs(hasattr(run, each), "resume" in methods, name)
 
     def test_errors(self):
         errors = importlib.import_module("keepsgoing.errors")

@@ -296,8 +296,8 @@ class Language(unittest.TestCase):
                 if isinstance(node, ast.Attribute) and isinstance(node.ctx, ast.Store):
                     attributes.add(node.attr)
         self.assertFalse(attributes & NO_ATTRIBUTES)
-        properties = {"entries", "state"}
-        self.assertFalse(own & attributes - properties)
+        properties = {"entries", "state", "steps", "total", "cells"}
+        self.assertFalse(own & attributes)
         for name, (_, tree) in self.files.items():
             above = parents(tree)
             for node in ast.walk(tree):
