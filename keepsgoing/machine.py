@@ -54,8 +54,8 @@ class Machine:
         """Do one tick with a row, and return what is shown."""
         kept = len(self.contents)
         cells = list(self.contents + self.others)
-        for (cell, size, here), given in zip(self.inputs, row):
-            _take_in(cells, (cell, size, here), given)
+        for place, given in zip(self.inputs, row):
+            _take_in(cells, place, given)
         many = 0
         at = 0
         while at < len(self.code):

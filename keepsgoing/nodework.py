@@ -74,5 +74,3 @@ def _merge(node):
 
 
 MAKERS = {"input": _input, "here": _here, "const": _const, "when": _when, "merge": _merge}
-
-

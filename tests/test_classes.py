@@ -194,6 +194,21 @@ class Alike(unittest.TestCase):
         self.assertEqual(alike(made), (0, 1, 2) * 3)
         self.assertEqual(len(merged(made, alike(made))[2]), 3)
 
+    def test_merges(self):
+        """Merges with other arms, or by other nodes, are not alike."""
+        nodes = [("input", BOOL, (), 0), ("input", BOOL, (), 1)]
+        for c in (0, 0, 1):
+            nodes += [("const", NUM, ((c, 0),), 1), ("const", NUM, ((c, 0),), 2), ("const", NUM, ((c, 1),), 3)]
+        nodes += [("merge", NUM, (), c, arms) for c, arms in (
+            (0, (2, 4)), (0, (3, 4)), (0, (5, 7)), (0, (2, 7)), (1, (8, 10)), (0, (6, 4)))]
+        made = flow(X, *nodes)
+        self.assertEqual(alike(made), slow_alike(made))
+        self.assertEqual(alike(made)[11:], (11, 12, 11, 11, 15, 12))
+        same = [("input", BOOL, (), 0)] * 2 + [("merge", BOOL, (), at, (at + 4, at + 6)) for at in range(2)]
+        same += [("const", BOOL, ((at % 2, at // 2),), 0) for at in range(4)]
+        made = flow(X, *same)
+        self.assertEqual(alike(made), (0, 0, 2, 2, 4, 4, 6, 6))
+
     def test_long_chains(self):
         nodes = [("delay", BOOL, (), 0, at + 1, ()) for at in range(1999)] + [("input", BOOL, (), 0)]
         made = flow(X, *nodes)

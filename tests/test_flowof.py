@@ -75,6 +75,13 @@ class Words(Flows):
             made = flat(("fresh", "e", n, A))
             self.shows(made, flat_rows(n, made, 150))
 
+    def test_fresh_of_all_kinds(self):
+        for kind in (BOOL, ("num", -3, -1, 2, "hold"), MODE, ("mode", ("a",)), ("row", BOOL, 6), ("row", LV, 1)):
+            for n in (0, 2):
+                made = flat(("fresh", "x", n, ("name", "y")), inputs=(("x", kind, 1), ("y", kind, 0)))
+                checked(made)
+                self.shows(made, flat_rows(n, made, 40))
+
     def test_names_that_are_the_same(self):
         made = flat(("name", "x1"), ("name", "x2"), ("add", A, A), ("name", "a"), ("name", "e@here"))
         flow = self.shows(made, flat_rows(1, made, 5))

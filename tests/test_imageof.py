@@ -146,6 +146,13 @@ class Words(Images):
                  ("input", NUMS, ((12, 1),), 12), ("input", BOOL, (), 13), ("input", NUMS, ((0, 1),), 14)]
         self.all_ways(*nodes)
 
+    def test_many_inputs(self):
+        events = tuple((f"e{at}", NUMS if at % 2 else BOOL, 1) for at in range(30))
+        nodes = [("here", BOOL, (), at) for at in range(30)]
+        nodes += [("input", events[at][1], ((at, 1),), at) for at in range(30)]
+        made = ("flow", events, tuple(nodes), tuple((f"o{at}", at) for at in range(60)), (), ())
+        self.images(made, rows_of(3, made, 6))
+
     def test_consts_and_whens(self):
         self.all_ways(("const", NUM, (), 3), ("const", MODES, (), (2, 1)), ("const", NUMS, ((5, 2),), (-3, 0, 4)),
                       ("when", NUMS, ((0, 1),), 8), ("when", TENTH, ((5, 1),), 4), ("when", SINGLE, ((6, 0),), 10))

@@ -139,6 +139,7 @@ class Judge(unittest.TestCase):
 
     def test_many_steps(self):
         self.assertIs(is_image(("image", (0,), 0, (), (), (("skip", 0),) * 20000001)), False)
+        self.assertIs(is_image(("image", (0,), 0, (), (), (("skip", 0),) * 20000000)), True)
         self.assertIs(is_image(("image", (0,), 0, (), (), (("skip", 0),) * 100000)), True)
 
     def test_words_and_lengths(self):

@@ -80,6 +80,9 @@ class Knots(unittest.TestCase):
         num = ("num", 0, 3, 1, "wrap")
         more = (("const", num, (), 1), ("pick", num, (), 0, X, Y), ("pick", num, (), 1, X, X))
         self.assertIs(judge_knots(flow(more=more)), False)
+        more = (("const", num, (), 1), ("pick", num, (), 0, X, Z), ("pick", num, (), 0, Y, X))
+        self.assertEqual(len(knots_of(flow(more=more))), 1)
+        self.assertIs(judge_knots(flow(more=more)), False)
         self.assertIs(judge_knots(flow(("eq", X, 1))), False)
         self.assertIs(judge_knots(flow(("ne", X, X))), False)
         self.assertIs(judge_knots(flow(("and", Y, NO), ("vote", X, NO, NO))), False)
@@ -265,6 +268,13 @@ class Opening(unittest.TestCase):
         with self.assertRaises(TooLarge) as caught:
             opened(made)
         self.assertEqual(caught.exception.part, "flow")
+        # More than 2000 nodes are too many, 2000 are not.
+        more = 1
+        while len(opened(self.chains(1, more))[2]) < 2000:
+            more += 2000 - len(opened(self.chains(1, more))[2])
+        self.opens(self.chains(1, more), self.all_rows(2))
+        with self.assertRaises(TooLarge):
+            opened(self.chains(1, more + 1))
         self.assertEqual(opened(flow(*[("not", 0)] * 1988))[2][-1], ("not", BOOL, (), 0))
 
 

@@ -73,8 +73,12 @@ class Orders(unittest.TestCase):
                  (0, 3, 4, 6, 2, 1, 5), (0, 3, 1, 2, 5, 4, 6), good[:-1] + (-2,), good[:-1] + (1000000,)]
         for order in wrong:
             self.assertIs(judge_order(TWO, order), False, order)
-        # A delay can stand ahead of what it takes, here of node 6.
-        self.assertIs(judge_order(TWO, (0, 3, 4, 6, 1, 2, 5)), True)
+        # A delay stands ahead of what it takes, here of node 6.
+        self.assertLess(good.index(4), good.index(6))
+        consts = ("flow", (), tuple(("const", NUM, (), at) for at in range(3)), (), (), ())
+        for order in ((0, 0, 1), (0, 1, 1), (2, 1, 2), (0, 1, 3), (0, 1, -1), (0, 1, None), (0, 1, ""), (0, 1)):
+            self.assertIs(judge_order(consts, order), False)
+        self.assertIs(judge_order(consts, (2, 0, 1)), True)
 
     def test_each_condition_alone(self):
         """Each node on which another one hangs must stand ahead of it, for all words."""

@@ -135,7 +135,7 @@ class Judge(unittest.TestCase):
         # Together at one place; two sizes; a seat that is nobody's; other numbers and lengths.
         for bad in ((0, 0, 1, 2, 3, 4), (0, 1, 1, 2, 2, 0), (0, 1, 0, 2, 2, 1), (0, 1, 2, 0, 3, 4),
                     (0, 1, 2, 3, 1, 4), (0, 1, 2, 4, 5, 6), (1, 2, 3, 4, 5, 6), (0, 1, 0, 3, 3, 0),
-                    (), (0, 1, 2, 3, 4), (0, 1, 2, 3, 4, 5, 6), (-1, 0, 1, 2, 3, 4), (0, 1, 2, 3, 4, 1000000)):
+                    (-1, 1, -1, 2, 2, -1), (), (0, 1, 2, 3, 4), (0, 1, 2, 3, 4, 5, 6), (-1, 0, 1, 2, 3, 4), (0, 1, 2, 3, 4, 1000000)):
             self.judge(bad, False)
 
     def test_by_the_order(self):

@@ -129,6 +129,20 @@ class Reasons(unittest.TestCase):
                                    ("delay", BOOL, (), 0, 17, ())),
                          (0, 0, None, None, None, None, 0, 0, None, None, 0))
 
+    def test_claims_that_are_taken_back(self):
+        """A delay whose claim has no reason takes back those of all words that had it as theirs."""
+        on, off = ((XX, 1),), ((XX, 0),)
+        self.assertEqual(self.told(
+            ("delay", BOOL, (), 0, 11, ()), ("when", BOOL, on, 7), ("when", BOOL, off, 7),
+            ("merge", BOOL, (), XX, (9, 8)), ("not", BOOL, (), 10)), (None,) * 5)
+        self.assertEqual(self.told(
+            ("delay", BOOL, (), 0, 10, ()), ("const", NUM, ((7, 0),), 3), ("when", NUM, ((7, 1),), NN),
+            ("eq", BOOL, (), 11, 12), ("merge", NUM, (), 7, (8, 9)), ("const", NUM, (), 3)),
+            (None, 3, None, None, None, 3))
+        self.assertEqual(self.told(
+            ("delay", BOOL, (), 1, 9, ()), ("pick", NUM, (), 7, FOUR, NN), ("ne", BOOL, (), 8, FOUR),
+            ("delay", BOOL, (), 0, 11, ()), ("or", BOOL, (), 7, XX)), (None, None, None, None, None))
+
     def test_whens(self):
         clock = ((XX, 1),)
         self.assertEqual(self.told(("when", NUM, clock, FOUR), ("when", NUM, clock, NN)), (4, None))
@@ -189,6 +203,19 @@ class Judge(unittest.TestCase):
                     good[:3] + (2,) + good[4:], good[:3] + (-1,) + good[4:], good[:3] + ((0,),) + good[4:],
                     good[:5] + (6,) + good[6:], (None,) * 7 + ((0, 1),), good[:4] + (None,) + good[5:]):
             self.assertIs(judge_steady(made, bad), False, bad)
+
+    def test_wrong_values_that_are_operands(self):
+        # The nodes that look at a wrong claim stand ahead of it.
+        made = flow(("add", NUM, (), 2, 3), ("at", BOOL, (), 4, 2), ("const", NUM, (), 1), ("input", NUM, (), 1),
+                    ("const", ROW, (), (0, 1)), ("merge", NUM, (), 8, (6, 7)), ("const", NUM, ((8, 0),), 1),
+                    ("const", NUM, ((8, 1),), 1), ("const", BOOL, (), 0))
+        good = (None, 1, 1, None, (0, 1), 1, 1, 1, 0)
+        self.assertIs(judge_steady(made, good), True)
+        for at in (2, 3, 4, 8):
+            for claim in ("p", (), (1,), (0, 1, 0), -7, 1000000, ((0, 1), 0)):
+                for first in (None, 0):
+                    paper = (first,) + good[1:at] + (claim,) + good[at + 1:]
+                    self.assertIs(judge_steady(made, paper), False, paper)
 
     def test_less_is_not_always_taken(self):
         # A claim that another one has as its reason cannot be left out alone.

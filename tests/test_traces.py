@@ -148,6 +148,11 @@ class Blames(unittest.TestCase):
             self.blames(made, rows, {(0, 4): None, (0, 0): entry}, (0, 0))
             self.blames(made, rows, {(1, 3): None, (1, 2): entry, (1, 0): entry},
                         (1, 0) if entry is None else (1, 2))
+        made = flow((("x", BOOL, 0),), ("when", BOOL, ((1, 1),), 2), ("input", BOOL, (), 0), ("not", BOOL, (), 1))
+        for entry in (None, 0, 1):
+            self.blames(made, ((1,),), {(0, 2): None, (0, 0): entry}, (0, 0))
+        made = flow((("x", BOOL, 0),), ("merge", NUM, (), 4, (1, 2)), ("const", NUM, ((4, 0),), 3),
+                    ("when", NUM, ((4, 1),), 3), ("const", NUM, (), 5), ("input", BOOL, (), 0))
         # The arm that is not taken does not count.
         self.blames(made, rows, {(0, 2): 5}, (0, 2))
 
