@@ -36,6 +36,7 @@ from keepsgoing.traces import blame, trace_of
 from keepsgoing.treeruns import ProgramRun
 from keepsgoing.writing import write_expr, write_kind, write_program
 from tests.knotflows import knot_flow, slow_let
+from tests.latercalls import later_calls
 from tests.randomflows import random_flow, random_rows
 from tests.randomprograms import random_program
 from tests.randomprograms import random_rows as program_rows
@@ -94,7 +95,8 @@ def calls():
         lambda: has(NUM, 3), lambda: has(NUM, None), lambda: has(("row", BOOL, 2), (0, 1)),
         lambda: is_flow(flow), lambda: is_flow(flow[:2] + ((),) + flow[3:]),
         lambda: is_straight(flow), lambda: is_started(flat), lambda: one_beat((), ())]
-    return plain, bools
+    later, judges = later_calls()
+    return plain + later, bools + judges
 
 
 def stage_calls(flat, flat_rows, flow, rows):

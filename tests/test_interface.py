@@ -33,18 +33,28 @@ FUNCTIONS = {
     "seats": "lives(flow,order) judge_seats(flow,order,seating) seats_of(flow,order)",
     "images": "is_image(image)",
     "imageof": "image_of(flow,order,seating)",
+    "bills": "bill(code) dear_way(code)",
+    "phases": "period(flow) phase_bills(flow,image) account(flow,image)",
+    "splits": "foreign(flow,split,controller) crossing(flow,split) early(flow,node)",
+    "buses": "judge_bus(flow,split,bus) frame_ticks(flow,split,bus,node,controller) "
+             "plain_bus(flow,split,spans)",
+    "lags": "judge_lags(flow,split,bus,lags) least_lags(flow,split,bus)",
+    "parts": "parts_of(flow,split)",
+    "deciding": "rows_of(flow) decided(flow,most) judge_closed(flow,states)",
 }
 TICKING = {"tick": ["self", "row"], "ticks": ["self", "rows"]}
 STATED = {"resume": ["self", "state"], "trial": ["self"], "tried": ["self", "rows"]}
-CLASSES = {
-    "flowruns": ("FlowRun", "(flow)", {**TICKING, **STATED}, ["state", "entries"]),
-    "treeruns": ("ProgramRun", "(program)", TICKING, []),
-    "flatruns": ("FlatRun", "(flat,fillings=())", TICKING, []),
-    "knotruns": ("KnotRun", "(flow)", {**TICKING, **STATED}, ["state"]),
-    "orderruns": ("OrderRun", "(flow,order)", {**TICKING, **STATED}, ["state"]),
-    "machine": ("Machine", "(image)", {**TICKING, **STATED, "spoil": ["self", "cells"]},
-                ["state", "steps", "total", "cells"]),
-}
+CLASSES = [
+    ("flowruns", "FlowRun", "(flow)", {**TICKING, **STATED}, ["state", "entries"]),
+    ("treeruns", "ProgramRun", "(program)", TICKING, []),
+    ("flatruns", "FlatRun", "(flat,fillings=())", TICKING, []),
+    ("knotruns", "KnotRun", "(flow)", {**TICKING, **STATED}, ["state"]),
+    ("orderruns", "OrderRun", "(flow,order)", {**TICKING, **STATED}, ["state"]),
+    ("machine", "Machine", "(image)", {**TICKING, **STATED, "spoil": ["self", "cells"]},
+     ["state", "steps", "total", "cells"]),
+    ("splitruns", "SplitRun", "(flow,split,bus,lags)", TICKING, []),
+    ("splitruns", "LossyRun", "(flow,split,bus,lags,losses)", TICKING, []),
+]
 
 
 class Interface(unittest.TestCase):
@@ -64,7 +74,7 @@ class Interface(unittest.TestCase):
                     self.assertEqual(got, f"({arguments})", name)
 
     def test_classes(self):
-        for module, (name, arguments, methods, properties) in CLASSES.items():
+        for module, name, arguments, methods, properties in CLASSES:
             made = getattr(importlib.import_module("keepsgoing." + module), name)
             self.assertEqual(made.__module__, "keepsgoing." + module)
             self.assertEqual(str(inspect.signature(made)).replace(" ", ""), arguments)
@@ -81,7 +91,7 @@ class Interface(unittest.TestCase):
         self.assertEqual(list(inspect.signature(made.of).parameters), ["made"])
 
     def test_runs_without_a_state(self):
-        for module, (name, _, methods, _) in CLASSES.items():
+        for module, name, _, methods, _ in CLASSES:
             run = getattr(importlib.import_module("keepsgoing." + module), name)
             for each in ("state", "resume", "trial", "tried"):
                 self.assertIs(hasattr(run, each), "resume" in methods, name)

@@ -39,7 +39,8 @@ NO_ATTRIBUTES = set(
     "encode decode hex fromhex format format_map mro as_integer_ratio bit_count conjugate "
     "from_bytes is_integer to_bytes".split())
 DUNDERS = {"__init__", "__enter__", "__exit__"}
-TAKERS = {"list", "tuple", "dict", "sorted", "sum", "any", "all", "enumerate", "zip", "min", "max"}
+TAKERS = {"list", "tuple", "dict", "sorted", "sum", "any", "all", "enumerate", "zip", "min", "max",
+          "permutations"}
 VIEWS = {"zip", "enumerate", "reversed", "range"}
 
 

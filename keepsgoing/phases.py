@@ -1,0 +1,79 @@
+"""Phases: the bills of the ticks by the beats that tell the time, and the account of an image."""
+
+from math import lcm
+
+from keepsgoing.bills import bill, most_steps, passed_by
+
+
+def period(flow):
+    """Return the least common multiple of the n of the beats that are there at every tick."""
+    many = 1
+    for n, _ in _steady_beats(flow).values():
+        many = lcm(many, n)
+    return many
+
+
+def phase_bills(flow, image):
+    """Return the bills of the phases of an image of a flow.
+
+    The code is cut where all ways come by. A piece hangs on few of the beats, so it is gone
+    through for the phases of these alone; tables has what the pieces with one span need together.
+    """
+    code = image[5]
+    beats = _steady_beats(flow)
+    tables = {}
+    for first, end in _pieces(code):
+        looks = [(at, code[at][2], beats[code[at][4]]) for at in range(first, end)
+                 if code[at][0] == "unless" and code[at][4] in beats]
+        needs = _needs(code, first, end, looks)
+        table = tables.setdefault(len(needs), [0] * len(needs))
+        for phase, many in enumerate(needs):
+            table[phase] += many
+    return tuple([_at_phase(tables, each) for each in range(period(flow))])
+
+
+def _at_phase(tables, phase):
+    return sum([table[phase % span] for span, table in tables.items()])
+
+
+def account(flow, image):
+    """Return the number of cells, of kept cells, the bill, and the bills of the phases."""
+    _, cells, kept, _, _, code = image
+    return (len(cells), kept, bill(code), phase_bills(flow, image))
+
+
+def _steady_beats(flow):
+    """Return a dict with the n and the k of each beat with the clock `()`."""
+    return {number: node[3:] for number, node in enumerate(flow[2])
+            if node[0] == "beat" and node[2] == ()}
+
+
+def _pieces(code):
+    """Return the smallest pieces of a code, `(first, end)`, that no step leads over the end of."""
+    found = []
+    first = 0
+    far = 0
+    for at, step in enumerate(code):
+        far = max(far, at + 1 + passed_by(step))
+        if far == at + 1:
+            found.append((first, far))
+            first = far
+    return found
+
+
+def _needs(code, first, end, looks):
+    """Return the most steps through a piece, for each phase of the beats at which it looks."""
+    span = 1
+    for _, _, (n, _) in looks:
+        span = lcm(span, n)
+    known = {}
+    needs = []
+    for phase in range(span):
+        told = {}
+        for at, value, (n, k) in looks:
+            told[at] = value == (1 if phase % n == k else 0)
+        key = tuple(told.values())
+        if key not in known:
+            known[key] = most_steps(code, first, end, told)
+        needs.append(known[key])
+    return needs
