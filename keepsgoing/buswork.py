@@ -19,7 +19,8 @@ class BusWork:
         self.losses = {loss: True for loss in losses}
         self.time = 0
         self.rows = {}
-        self.turns = [each for _, each in sorted([(start, each) for each, start in enumerate(bus[2])])]
+        starts = sorted([(start, number) for number, start in enumerate(bus[2])])
+        self.turns = [each for _, each in starts]
         parts = parts_of(flow, split)
         self.runs = [FlowRun(part) for part in parts]
         self.coming = [foreign(flow, split, each) for each in range(len(parts))]

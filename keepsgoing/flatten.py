@@ -3,6 +3,7 @@
 from keepsgoing.errors import TooLarge
 from keepsgoing.flatexprs import flat_expr
 from keepsgoing.flatmachines import FlatMachine, defining
+from keepsgoing.flatuses import add_box, add_ins, out_equations
 from keepsgoing.kinds import BOOL
 from keepsgoing.meanings import kind_names, meaning_of
 from keepsgoing.places import unit_place
@@ -21,14 +22,16 @@ def laid_out(program):
     A span `(name, first, end)` has the equations from first to the one ahead of end, whose
     contents are put back to their beginning at a tick at which the name is there and 1.
     """
-    top = program[2][-1]
     work = Flattening(program)
-    inputs = [(name, meaning_of(kind, work.meanings), event) for name, kind, event in top[2]]
-    work.do_all(top)
-    outputs = tuple([name for name, _ in top[3]])
-    assumes, keeps = tuple(work.assumes), tuple(work.keeps)
-    flat = ("flat", tuple(inputs), tuple(work.eqs), outputs, assumes, keeps)
-    return flat, tuple(work.spans)
+    work.do_all(program[2][-1][4])
+    return work.finished(), tuple(work.spans)
+
+
+def flat_with(program, items):
+    """Return the flat program with other items of the top, in which `box` stands for some `use`."""
+    work = Flattening(program)
+    work.do_all(items)
+    return work.finished()
 
 
 class Flattening:
@@ -38,17 +41,28 @@ class Flattening:
     """
 
     def __init__(self, program):
+        self.top = program[2][-1]
         self.meanings = kind_names(program)
         self.units = {unit[1]: unit for unit in program[2]}
         self.eqs = []
         self.spans = []
         self.assumes = []
         self.keeps = []
+        self.loose = []
+        self.dues = []
         self.tasks = []
 
-    def do_all(self, top):
-        """Make all equations of the top."""
-        self.put_items(unit_place(top, "", None, (), self.meanings), top[4])
+    def finished(self):
+        """Return the flat program with all that has been made."""
+        _, _, ins, outs, _ = self.top
+        inputs = [(name, meaning_of(kind, self.meanings), event) for name, kind, event in ins]
+        outputs = tuple([name for name, _ in outs])
+        assumes, keeps = tuple(self.assumes + self.dues), tuple(self.keeps)
+        return ("flat", tuple(inputs + self.loose), tuple(self.eqs), outputs, assumes, keeps)
+
+    def do_all(self, items):
+        """Make all equations of these items of the top."""
+        self.put_items(unit_place(self.top, "", None, (), self.meanings), items)
         while self.tasks:
             word, place, thing = self.tasks.pop()
             do = DO[word]
@@ -107,13 +121,9 @@ def _add_claim(work, place, thing):
 
 
 def _do_use(work, place, item):
-    _, names, unit_name, args, every = item
-    unit = work.units[unit_name]
-    prefix = place.flat_name(names[0]) + "."
-    for at, (name, kind, _) in enumerate(unit[2]):
-        told = meaning_of(kind, work.meanings)
-        arg = flat_expr(args[at], place)
-        work.add_equation((prefix + name, told, place.home, 2 if at > 0 else 0, arg))
+    unit = work.units[item[2]]
+    prefix = add_ins(work, place, item)
+    every = item[4]
     resets = place.resets
     tasks = []
     if every is not None:
@@ -121,11 +131,14 @@ def _do_use(work, place, item):
         work.add_equation((reset, BOOL, place.home, 2, flat_expr(every, place)))
         resets = resets + (reset,)
         tasks.append(("span", place, (reset, len(work.eqs))))
-    for name, (out, _) in zip(names, unit[3]):
-        tasks.append(("equation", place, defining(place, name, ("name", prefix + out))))
+    tasks.extend([("equation", place, each) for each in out_equations(work, place, item, prefix)])
     work.put_tasks(tasks)
     inner = unit_place(unit, prefix, prefix + unit[2][0][0], resets, work.meanings)
     work.put_items(inner, unit[4])
+
+
+def _do_box(work, place, item):
+    add_box(work, place, item)
 
 
 def _do_equation(work, place, equation):
@@ -158,7 +171,7 @@ def _do_span(work, place, thing):
 
 # What is done with a task, by its word.
 DO = {
-    "set": _do_set, "assume": _do_assume, "keep": _do_keep, "use": _do_use,
+    "set": _do_set, "assume": _do_assume, "keep": _do_keep, "use": _do_use, "box": _do_box,
     "machine": _do_machine, "equation": _do_equation, "state": _do_state,
     "behind": _do_behind, "span": _do_span,
 }

@@ -63,17 +63,17 @@ def _pieces(code):
 
 def _needs(code, first, end, looks):
     """Return the most steps through a piece, for each phase of the beats at which it looks."""
+    beats = sorted(set([beat for _, _, beat in looks]))
     span = 1
-    for _, _, (n, _) in looks:
+    for n, _ in beats:
         span = lcm(span, n)
     known = {}
     needs = []
     for phase in range(span):
-        told = {}
-        for at, value, (n, k) in looks:
-            told[at] = value == (1 if phase % n == k else 0)
-        key = tuple(told.values())
-        if key not in known:
-            known[key] = most_steps(code, first, end, told)
-        needs.append(known[key])
+        truths = tuple([1 if phase % n == k else 0 for n, k in beats])
+        if truths not in known:
+            truth_of = dict(zip(beats, truths))
+            told = {at: value == truth_of[beat] for at, value, beat in looks}
+            known[truths] = most_steps(code, first, end, told)
+        needs.append(known[truths])
     return needs

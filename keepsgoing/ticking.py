@@ -31,3 +31,8 @@ class Ticking:
         if any(entries[node] == 0 for node in self.assumed):
             return None
         return (any(entries[node] == 0 for node in self.promised), after)
+
+    def let_ticks(self, state, rows):
+        """Return what let_tick tells for those of the rows that are let in the state."""
+        told = [self.let_tick(state, row) for row in rows]
+        return [each for each in told if each is not None]

@@ -1,25 +1,38 @@
 """Calls of the functions from bills on, each with the shape of its answer, for the tests of [2]."""
 
 from keepsgoing.bills import bill, dear_way
+from keepsgoing.boxes import alone, boxed, unit_by_unit
 from keepsgoing.buses import frame_ticks, judge_bus, plain_bus
+from keepsgoing.carrying import carried, carry_of, judge_carry
+from keepsgoing.changing import ChangedRun, judge_pairs, kept_on, seen_change
 from keepsgoing.deciding import decided, judge_closed, rows_of
+from keepsgoing.family import family, greatest, surely_kept
+from keepsgoing.healing import healing, judge_never
 from keepsgoing.imageof import image_of
 from keepsgoing.lags import judge_lags, least_lags
+from keepsgoing.machine import Machine
+from keepsgoing.make import made, verdict
 from keepsgoing.orders import order_of
 from keepsgoing.parts import parts_of
 from keepsgoing.phases import account, period, phase_bills
+from keepsgoing.reading import read_program
+from keepsgoing.sayings import judge_sayings
 from keepsgoing.seats import seats_of
 from keepsgoing.splitruns import LossyRun, SplitRun
 from keepsgoing.splits import crossing, early, foreign
+from keepsgoing.touching import gone, touched
+from keepsgoing.tripling import tripled
+from tests.changedflows import random_change
 from tests.randomflows import random_flow, random_rows
 from tests.randomsplits import ordered_split
-from tests.smallflows import small_flow
+from tests.smallflows import all_rows, small_flow
+from tests.test_boxes import SAMPLED, STEP
 
 
 def later_calls():
     """Calls with plain answers, and calls of judges."""
     plain, bools = [], []
-    for more in (bill_calls, bus_calls, contract_calls):
+    for more in (bill_calls, bus_calls, contract_calls, fault_calls, change_calls, text_calls):
         some, others = more()
         plain.extend(some)
         bools.extend(others)
@@ -63,5 +76,58 @@ def contract_calls():
             plain.append(call)
         bools.append(lambda flow=flow: judge_closed(flow, ()))
         bools.append(lambda flow=flow: judge_closed(flow, decided(flow, 1000)[1]))
+        for call in ((lambda flow=flow: family(flow)), (lambda flow=flow: greatest(flow))):
+            plain.append(call)
+        bools.append(lambda flow=flow: surely_kept(flow))
+        bools.append(lambda flow=flow: judge_sayings(flow, 2, greatest(flow)))
+        bools.append(lambda flow=flow: judge_sayings(flow, 1, (("same", 1, 0),)))
     plain.append(lambda: rows_of(random_flow(1, 20)))
     return plain, bools
+
+
+def fault_calls():
+    plain, bools = [], []
+    for seed in (1, 2, 3):
+        flow = random_flow(seed, 30)
+        for call in ((lambda flow=flow: touched(flow, (1, 5), (0,), 4)), (lambda flow=flow: gone(flow, (0,))),
+                     (lambda flow=flow: touched(flow, (1,), (), 4, lasts=True)), (lambda flow=flow: tripled(flow))):
+            plain.append(call)
+        small = small_flow(seed)
+        plain.append(lambda small=small: healing(small, 100000))
+        plain.append(lambda small=small: healing(small, 2))
+        bools.append(lambda small=small: judge_never(small, healing(small, 100000)))
+        bools.append(lambda small=small: judge_never(small, ("never", (), 0, 1, (), ())))
+    return plain, bools
+
+
+def change_calls():
+    plain, bools = [], []
+    for seed in (1, 2, 3, 4, 5, 6):
+        old, new, paper = random_change(seed)
+        change = (old, new, paper)
+        rows = all_rows(old) * 3
+        state = decided(old, 1000)[1][0] if decided(old, 1000)[0] == "kept" else None
+        for call in ((lambda change=change: seen_change(*change, 1000)), (lambda change=change: kept_on(*change, 1000)),
+                     (lambda change=change: seen_change(*change, 1)), (lambda old=old, new=new: carry_of(old, new)),
+                     (lambda change=change, rows=rows: tuple(ChangedRun(*change, 2).ticks(rows)))):
+            plain.append(call)
+        if state is not None:
+            plain.append(lambda change=change, state=state: carried(*change, state))
+        bools.append(lambda change=change: judge_carry(*change))
+        bools.append(lambda change=change: judge_carry(change[0], change[1], ()))
+        bools.append(lambda change=change: judge_pairs(*change, seen_change(*change, 1000)[1]))
+        bools.append(lambda change=change: judge_pairs(*change, ()))
+    return plain, bools
+
+
+def text_calls():
+    text = STEP + """unit main(p: bool, q: bool) gives (x: bool, m: lv) { use x, m = step(p and q, 2); assume p or q;
+        keep x == p or q; }"""
+    program = read_program(text)
+    other = read_program(SAMPLED)
+    plain = [
+        lambda: alone(program, "step"), lambda: boxed(program), lambda: boxed(other),
+        lambda: unit_by_unit(program, 1000), lambda: unit_by_unit(program, 1), lambda: unit_by_unit(other, 1000),
+        lambda: made(text), lambda: made(text, improve=0, share=0), lambda: made(text[:-2]), lambda: verdict(text, 100),
+        lambda: verdict(text, 0), lambda: tuple(Machine.of(made(text)).ticks([(1, 1), (0, 1), (1, 0)]))]
+    return plain, []

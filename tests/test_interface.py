@@ -41,6 +41,16 @@ FUNCTIONS = {
     "lags": "judge_lags(flow,split,bus,lags) least_lags(flow,split,bus)",
     "parts": "parts_of(flow,split)",
     "deciding": "rows_of(flow) decided(flow,most) judge_closed(flow,states)",
+    "sayings": "judge_sayings(flow,depth,paper)",
+    "family": "family(flow) greatest(flow) surely_kept(flow)",
+    "boxes": "alone(program,name) boxed(program) unit_by_unit(program,most)",
+    "touching": "touched(flow,seeds,cells,many,*,lasts=False) gone(flow,cells)",
+    "healing": "healing(flow,most) judge_never(flow,answer)",
+    "tripling": "tripled(flow)",
+    "carrying": "judge_carry(old,new,paper) carried(old,new,paper,state) carry_of(old,new)",
+    "changing": "seen_change(old,new,paper,most) judge_pairs(old,new,paper,pairs) "
+                "kept_on(old,new,paper,most)",
+    "make": "made(text,*,improve=1,share=1) verdict(text,most)",
 }
 TICKING = {"tick": ["self", "row"], "ticks": ["self", "rows"]}
 STATED = {"resume": ["self", "state"], "trial": ["self"], "tried": ["self", "rows"]}
@@ -54,6 +64,7 @@ CLASSES = [
      ["state", "steps", "total", "cells"]),
     ("splitruns", "SplitRun", "(flow,split,bus,lags)", TICKING, []),
     ("splitruns", "LossyRun", "(flow,split,bus,lags,losses)", TICKING, []),
+    ("changing", "ChangedRun", "(old,new,paper,at)", TICKING, []),
 ]
 
 

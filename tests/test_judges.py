@@ -5,17 +5,23 @@ import unittest
 
 from keepsgoing.alike import alike
 from keepsgoing.buses import judge_bus, plain_bus
+from keepsgoing.carrying import judge_carry
+from keepsgoing.changing import judge_pairs, seen_change
 from keepsgoing.classes import judge_classes
 from keepsgoing.deciding import decided, judge_closed
+from keepsgoing.family import greatest
 from keepsgoing.flows import is_flow
+from keepsgoing.healing import healing, judge_never
 from keepsgoing.imageof import image_of
 from keepsgoing.images import is_image
 from keepsgoing.kinds import is_kind
 from keepsgoing.lags import judge_lags, least_lags
 from keepsgoing.orders import judge_order, order_of
+from keepsgoing.sayings import judge_sayings
 from keepsgoing.seats import judge_seats, seats_of
 from keepsgoing.splits import crossing
 from keepsgoing.steady import judge_steady, steady
+from tests.changedflows import random_change
 from tests.randomflows import random_flow
 from tests.randomsplits import ordered_split
 from tests.smallflows import small_flow
@@ -67,6 +73,16 @@ def judges():
         told = decided(flow, 1000)
         if told[0] == "kept":
             yield judge_closed, (flow,), told[1]
+            yield judge_sayings, (flow, 1 + seed % 3), (("among", told[1]),) + greatest(flow)
+        answer = healing(flow, 10 ** 6)
+        if answer[0] == "never":
+            yield judge_never, (flow,), answer
+    for seed in range(60):
+        old, new, paper = random_change(seed)
+        yield judge_carry, (old, new), paper
+        told = seen_change(old, new, paper, 10 ** 6)
+        if told[0] == "never":
+            yield judge_pairs, (old, new, paper), told[1]
 
 
 class Judges(unittest.TestCase):
