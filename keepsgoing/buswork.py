@@ -73,20 +73,16 @@ class Wire:
     otherwise None. Its frame goes by so many ticks after the work as wait tells, 0 or 1.
     """
 
-    def __init__(self, node, place, cell, wait):
+    def __init__(self, node, told, place, cell, wait):
         self.node = node
         self.place = place
         self.cell = cell
         self.wait = wait
-        self.nothing = 0
-        self.last = 0
-        self.heard = {}
-
-    def begin(self, told):
-        """Hear what is known of the node ahead of all frames."""
         self.nothing = zero(told[1])
         self.last = self.nothing
-        if self.cell is not None:
+        self.heard = {}
+        if cell is not None:
+            # Its first is known to all without a frame.
             self.last = told[3]
             self.heard[0] = told[3]
 
@@ -107,9 +103,7 @@ def _wire_of(flow, split, bus, node, parts):
     owner = split[node]
     place = part_numbers(flow, split, owner)[node]
     cell = cells_of(parts[owner])[place] if early(flow, node) else None
-    wire = Wire(node, place, cell, wait_of(split, bus, node))
-    wire.begin(flow[2][node])
-    return wire
+    return Wire(node, flow[2][node], place, cell, wait_of(split, bus, node))
 
 
 def _shown_places(flow, split):

@@ -77,10 +77,10 @@ class ChangeSearch:
             new[thing] = (place, way)
 
     def _rank(self, old, new):
-        """Set the levels: ways by the same rows get the same rank."""
+        """Set the levels: ways by the same rows get the same rank. The old states are in order already."""
         places = list(old.values()) + [place[:2] for place, _ in new.values()]
         ranks = {place: rank for rank, place in enumerate(sorted(set(places)))}
-        self.old_level = sorted([(ranks[place], state) for state, place in old.items()])
+        self.old_level = [(ranks[place], state) for state, place in old.items()]
         self.new_level = [(ranks[place[:2]], place[2], thing) for thing, (place, _) in new.items()]
 
     def _rows_to(self, thing):

@@ -131,13 +131,12 @@ class ChangedRun:
         self.flows = (old, new, paper)
         self.run = FlowRun(old)
         self.left = at
-        self.is_changed = False
 
     def tick(self, row):
         """Do one tick with a row, and return what is shown."""
-        if not self.is_changed:
-            if self.left == 0:
-                self._change()
+        if self.left == 0:
+            self._change()
+        if self.left >= 0:
             self.left -= 1
         return self.run.tick(row)
 
@@ -146,7 +145,6 @@ class ChangedRun:
         state = carried(old, new, paper, self.run.state)
         self.run = FlowRun(new)
         self.run.resume(state)
-        self.is_changed = True
 
     def ticks(self, rows):
         """Do a tick with each row when it is asked for, and yield what is shown."""

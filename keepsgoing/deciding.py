@@ -6,7 +6,7 @@ from keepsgoing.flows import EVENT
 from keepsgoing.kinds import how_many, values_of
 from keepsgoing.nodework import beginning_of
 from keepsgoing.shapes import is_ascending
-from keepsgoing.ticking import Ticking
+from keepsgoing.ticking import Ticking, rows_to
 
 MOST_ROWS = 16
 
@@ -67,21 +67,12 @@ class Search:
                     continue
                 breaks, after = told
                 if breaks:
-                    return self._path(state) + (row,)
+                    return rows_to(self.came, state) + (row,)
                 if after not in self.came and len(self.came) <= most:
                     self.came[after] = (state, row)
                     level.append(after)
         self.level = level
         return None
-
-    def _path(self, state):
-        """Return the rows that lead from the beginning to a state."""
-        rows = []
-        while self.came[state] is not None:
-            state, row = self.came[state]
-            rows.append(row)
-        rows.reverse()
-        return tuple(rows)
 
 
 def judge_closed(flow, states):

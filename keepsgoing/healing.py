@@ -7,7 +7,7 @@ from keepsgoing.graphs import groups_among
 from keepsgoing.kinds import has, how_many, values_of
 from keepsgoing.nodework import beginning_of
 from keepsgoing.shapes import is_number_of, is_tuple_of
-from keepsgoing.ticking import Ticking
+from keepsgoing.ticking import Ticking, rows_to
 
 MOST_VALUES = 64
 
@@ -72,9 +72,8 @@ class Walks:
                 for value in values_of(kind):
                     if value != state[cell]:
                         pair = (state, state[:cell] + (value,) + state[cell + 1:])
-                        if pair not in self.paired:
-                            self.paired[pair] = (None, (cell, value))
-                            waiting.append(pair)
+                        self.paired[pair] = (None, (cell, value))
+                        waiting.append(pair)
             _check_pairs(self.paired, most)
         while waiting:
             _check_pairs(self.paired, most)
@@ -111,16 +110,7 @@ class Walks:
             ahead, told = self.paired[pair]
         on.reverse()
         cell, value = told
-        return ("never", self._lead_rows(pair[0]), cell, value, tuple(on), turn)
-
-    def _lead_rows(self, state):
-        """Return the rows that lead from the beginning to a state."""
-        found = []
-        while self.came[state] is not None:
-            state, row = self.came[state]
-            found.append(row)
-        found.reverse()
-        return tuple(found)
+        return ("never", rows_to(self.came, pair[0]), cell, value, tuple(on), turn)
 
     def _ring_rows(self, start):
         """Return rows that lead from a pair back to itself."""
@@ -158,8 +148,7 @@ def judge_never(flow, answer):
         return False
     ticking = Ticking(flow)
     state = _led(ticking, beginning_of(flow), lead)
-    if state[cell] == value:
-        return False
+    # With the content that is there already, both states are equal at all times.
     other = _led(ticking, state[:cell] + (value,) + state[cell + 1:], on)
     state = _led(ticking, state, on)
     return state != other and state == _led(ticking, state, turn) and other == _led(ticking, other, turn)

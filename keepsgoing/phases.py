@@ -22,9 +22,7 @@ def phase_bills(flow, image):
     code = image[5]
     beats = _steady_beats(flow)
     tables = {}
-    for first, end in _pieces(code):
-        looks = [(at, code[at][2], beats[code[at][4]]) for at in range(first, end)
-                 if code[at][0] == "unless" and code[at][4] in beats]
+    for first, end, looks in _pieces(code, beats):
         needs = _needs(code, first, end, looks)
         table = tables.setdefault(len(needs), [0] * len(needs))
         for phase, many in enumerate(needs):
@@ -48,16 +46,26 @@ def _steady_beats(flow):
             if node[0] == "beat" and node[2] == ()}
 
 
-def _pieces(code):
-    """Return the smallest pieces of a code, `(first, end)`, that no step leads over the end of."""
+def _pieces(code, beats):
+    """Return pieces of a code, `(first, end, looks)`, that no step leads over the end of.
+
+    Looks are the places of the steps that go on by one of the beats, each with its value and its
+    beat. Pieces with looks are as short as can be, those between them have none.
+    """
     found = []
-    first = 0
-    far = 0
+    start = first = far = 0
+    looks = []
     for at, step in enumerate(code):
+        if step[0] == "unless" and step[4] in beats:
+            looks.append((at, step[2], beats[step[4]]))
         far = max(far, at + 1 + passed_by(step))
         if far == at + 1:
-            found.append((first, far))
+            if looks:
+                found.extend([(start, first, []), (first, far, looks)])
+                start = far
+                looks = []
             first = far
+    found.append((start, len(code), []))
     return found
 
 

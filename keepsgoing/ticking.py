@@ -36,3 +36,13 @@ class Ticking:
         """Return what let_tick tells for those of the rows that are let in the state."""
         told = [self.let_tick(state, row) for row in rows]
         return [each for each in told if each is not None]
+
+
+def rows_to(came, state):
+    """Return the rows that lead to a state, where came has the one ahead of it and the row, or None."""
+    rows = []
+    while came[state] is not None:
+        state, row = came[state]
+        rows.append(row)
+    rows.reverse()
+    return tuple(rows)

@@ -75,6 +75,35 @@ def random_change(seed, most=20):
     return old, new, random_paper(rng, old, new)
 
 
+def deep_change(seed):
+    """A change of three or four bools that work on each other, of which little is shown; or None."""
+    rng = random.Random(seed)
+    many = rng.choice([3, 4])
+    inputs = (("x", BOOL, 0),) if rng.random() < 0.7 else (("x", BOOL, 1),)
+    nodes = [("input", BOOL, (), 0)] if inputs[0][2] == 0 else [("here", BOOL, (), 0)]
+    nodes += [("delay", BOOL, (), 0, 1 + at, ()) for at in range(many)]
+    for _ in range(7):
+        word = rng.choice(["and", "or", "xor", "not", "xor"])
+        nodes.append((word, BOOL, ()) + tuple(rng.randrange(len(nodes)) for _ in range(1 if word == "not" else 2)))
+    gates = range(many + 1, len(nodes))
+    for at in range(1, many + 1):
+        nodes[at] = nodes[at][:4] + (rng.choice(list(gates) + [0, 1 + at % many]), ())
+    some = rng.sample(range(1, many + 1), 2)
+    out = len(nodes)
+    nodes += [("and", BOOL, (), *some), ("and", BOOL, (), out, rng.randrange(1, many + 1)), ("not", BOOL, (), out + 1),
+              ("or", BOOL, (), 0, rng.randrange(1, many + 1))]
+    assumes = rng.choice([(), (("p", out + 3),), (("p", rng.choice(gates)),)])
+    old = ("flow", inputs, tuple(nodes), (("o", out + 1),), assumes, (("q", out + 2),))
+    changed = list(nodes)
+    for _ in range(rng.choice([0, 1, 1, 2])):
+        at = rng.randrange(1, many + 1)
+        changed[at] = changed[at][:3] + (rng.choice([0, 1]), rng.choice(list(gates) + [at]), ())
+    new = old[:2] + (tuple(changed),) + old[3:]
+    paper = tuple(rng.choice([at, at, at, None, rng.randrange(many)]) for at in range(many))
+    assert is_flow(old) and is_flow(new)
+    return old, new, paper
+
+
 def slow_carried(old, new, paper, state):
     begun = Looked(new).start
     return tuple(begun[at] if cell is None else state[cell] for at, cell in enumerate(paper))

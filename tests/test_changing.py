@@ -8,7 +8,7 @@ from keepsgoing.changing import ChangedRun, judge_pairs, kept_on, seen_change
 from keepsgoing.errors import TooLarge, TooMany
 from keepsgoing.flowruns import FlowRun
 from keepsgoing.flows import is_flow, memory_of
-from tests.changedflows import SlowChange, form, other_flow, random_change, slow_carried
+from tests.changedflows import SlowChange, deep_change, form, other_flow, random_change, slow_carried
 from tests.randomflows import random_flow, random_rows
 from tests.runchecks import check_no_state, check_ticks
 from tests.smallflows import Looked, all_rows, every_state
@@ -241,6 +241,28 @@ class Seen(unittest.TestCase):
         self.assertTrue(seen > 100 and never > 100 and long > 8 and late > 20, (seen, never, long, late))
 
 
+class Deep(unittest.TestCase):
+    """Changes that are seen, or break the contract, only behind several rows: the first ones count."""
+
+    def check(self, call, test):
+        depths, late = {}, 0
+        for seed in range(700):
+            old, new, paper = deep_change(seed)
+            told = call(old, new, paper, 10 ** 6)
+            slow = SlowChange(old, new, paper)
+            if len(told) == 3 and 2 <= len(told[1]) <= 6 and len(slow.rows) ** len(told[1]) <= 1000:
+                self.assertEqual(told[1:], slow.first(getattr(slow, test), len(told[1])), seed)
+                depths[len(told[1])] = depths.get(len(told[1]), 0) + 1
+                late += told[2] > 0
+        self.assertTrue(all(depths.get(each, 0) > 10 for each in (2, 3, 4)) and 5 in depths and late > 40, (depths, late))
+
+    def test_seen(self):
+        self.check(seen_change, "sees")
+
+    def test_broken(self):
+        self.check(kept_on, "breaks")
+
+
 class Pairs(unittest.TestCase):
     def test_each_condition(self):
         old = counter(0, 1)
@@ -261,6 +283,12 @@ class Pairs(unittest.TestCase):
         self.assertIs(judge_pairs(same, same, (0,), (((0,), (0,)), ((3,), (3,)), ((3,), (4,)))), True)
         self.assertIs(judge_pairs(same, same, (None,), (((0,), (0,)), ((3,), (0,)))), True)
         self.assertIs(judge_pairs(same, same, (None,), (((3,), (0,)),)), False)
+        # All else would be right but that 6 is no value of the kind, or a state too long.
+        self.assertIs(judge_pairs(same, same, (0,), (((0,), (0,)), ((0,), (6,)))), False)
+        self.assertIs(judge_pairs(same, same, (0,), (((0,), (0,)), ((0,), (0, 0)))), False)
+        self.assertIs(judge_pairs(same, same, (None,), (((0,), (0,)), ((5,), (0,)))), True)
+        self.assertIs(judge_pairs(same, same, (None,), (((0,), (0,)), ((6,), (0,)))), False)
+        self.assertIs(judge_pairs(same, same, (None,), (((0,), (0,)), ((0, 0), (0,)))), False)
 
     def test_carried_states_of_those_behind(self):
         """It is the state to which the old flow leads that needs its carried state in the set."""

@@ -140,6 +140,56 @@ class Within(unittest.TestCase):
                     self.assertEqual(caught.exception.part, part)
         self.assertTrue(all(counts.get(each, 0) > 5 for each in (1, 2, None)) and 3 in counts, counts)
 
+    def check(self, made):
+        """The answer, and the numbers of states and of pairs that are just enough."""
+        states, pairs, d = slow_healing(made)
+        told = healing(made, max(states, pairs))
+        if d is None:
+            self.assertTrue(slow_never(made, told))
+            self.assertIs(judge_never(made, told), True)
+        else:
+            self.assertEqual(told, ("within", d))
+        for most in (pairs - 1, states - 1):
+            with self.assertRaises(TooMany) as caught:
+                healing(made, most)
+            self.assertEqual(caught.exception.part, "states" if most < states else "pairs")
+        return told
+
+    def test_a_short_and_a_long_way(self):
+        """By some rows a flip is healed sooner than by others: the longest way counts."""
+        nodes = (("input", BOOL, (), 0), ("const", BOOL, (), 0), ("delay", BOOL, (), 0, 1, ()), ("and", BOOL, (), 2, 0),
+                 ("delay", BOOL, (), 0, 3, ()), ("delay", BOOL, (), 0, 4, ()), ("delay", BOOL, (), 0, 5, ()),
+                 ("not", BOOL, (), 0), ("and", BOOL, (), 2, 7), ("delay", BOOL, (), 0, 8, ()))
+        self.assertEqual(self.check(flow((("x", BOOL, 0),), *nodes)), ("within", 4))
+
+    def test_pairs_that_no_flip_makes(self):
+        """A flip comes to two cells at once, and from there to others: these pairs are counted, too."""
+        nodes = (("input", BOOL, (), 0), ("const", BOOL, (), 0), ("delay", BOOL, (), 0, 1, ()),
+                 ("delay", BOOL, (), 0, 2, ()), ("delay", BOOL, (), 0, 2, ()), ("and", BOOL, (), 3, 4),
+                 ("delay", BOOL, (), 0, 5, ()), ("delay", BOOL, (), 0, 5, ()))
+        self.assertEqual(self.check(flow((("x", BOOL, 0),), *nodes)), ("within", 3))
+
+    def test_rows_in_their_order(self):
+        """A flip stays for ever only if 1 comes at first, and then 2: no single cell keeps what is wrong."""
+        three = ("num", 0, 2, 1, "wrap")
+        nodes = (("input", three, (), 0), ("const", three, (), 1), ("const", three, (), 2), ("eq", BOOL, (), 0, 1),
+                 ("eq", BOOL, (), 0, 2), ("const", BOOL, (), 0), ("delay", BOOL, (), 0, 5, ()), ("and", BOOL, (), 6, 3),
+                 ("delay", BOOL, (), 0, 7, ()), ("delay", BOOL, (), 0, 7, ()), ("and", BOOL, (), 8, 9),
+                 ("and", BOOL, (), 10, 4), ("delay", BOOL, (), 0, 15, ()), ("delay", BOOL, (), 0, 15, ()),
+                 ("and", BOOL, (), 12, 13), ("or", BOOL, (), 11, 14))
+        told = self.check(flow((("x", three, 0),), *nodes))
+        self.assertEqual(told[4][:2], ((1,), (2,)))
+
+    def test_leads_in_their_order(self):
+        """Only in the state behind 1 and then 2 a flip can stay."""
+        three = ("num", 0, 2, 1, "wrap")
+        nodes = (("input", three, (), 0), ("delay", three, (), 0, 0, ()), ("const", three, (), 1), ("const", three, (), 2),
+                 ("eq", BOOL, (), 0, 3), ("eq", BOOL, (), 1, 2), ("and", BOOL, (), 4, 5), ("or", BOOL, (), 6, 8),
+                 ("delay", BOOL, (), 0, 7, ()), ("delay", BOOL, (), 0, 11, ()), ("xor", BOOL, (), 9, 8),
+                 ("and", BOOL, (), 8, 9))
+        told = self.check(flow((("x", three, 0),), *nodes))
+        self.assertEqual(told[0], "never")
+
     def test_flips_that_heal_late(self):
         """A chain of delays behind a beat: the flip goes through all of them, from the beat it never ends."""
         x = ("input", BOOL, (), 0)

@@ -141,7 +141,7 @@ class Words(unittest.TestCase):
         made = self.kept(2, 4)
         for saying in (("", 0, 2), ("leasts", 0, 2), (None, 0, 2), ("among", 0, 2), ("if", 0, 2), ("least", 0, 2, 1, 4),
                        ("same", 0, 1, 1, 1), ("if", 0), ("least",), (), ("least", 0, None), ("most", 0, ""),
-                       ("if", 0, None, 1, 4), ("if", 0, 2, 1, None), ("same", None, 1), ("among", None)):
+                       ("if", 0, None, 1, 4), ("if", 0, 2, 1, None), ("if", 0, 3, 1, None), ("same", None, 1), ("among", None)):
             self.check(made, False, (saying,), (("least", 0, 2), saying))
 
 
@@ -228,6 +228,8 @@ class Errors(unittest.TestCase):
         self.check(flow((), *big, ("beat", BOOL, (), 2, 0)), "states")
         self.check(flow(five, *big), "rows")
         self.check(flow(five, *big, ("delay", BOOL, (), 0, 0, ())), "rows")
+        self.check(flow((), ("delay", ("num", 0, 256, 1, "wrap"), (), 0, 0, ())), "states")
+        self.assertIs(judge_sayings(flow((), ("delay", ("num", 0, 255, 1, "wrap"), (), 0, 0, ())), 1, ()), True)
         self.check(flow((), ("delay", ("num", -1000, 1000, 1, "wrap"), (), 0, 0, ())), "states")
         self.check(flow((), ("delay", ("row", ("num", 0, 16, 1, "wrap"), 2), (), (0, 0), 0, ())), "states")
         self.assertIs(judge_sayings(flow((), ("delay", ("row", ("num", 0, 15, 1, "wrap"), 2), (), (0, 0), 0, ())), 1,
